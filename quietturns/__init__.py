@@ -1,0 +1,1 @@
+"""Lengths of links changed in steps, while packets are on their way."""
