@@ -67,9 +67,14 @@ class Net:
 
 def need_routers(net, a, b):
     """Raises NoRouter for the first of both that is not a router of the net."""
-    for value in (a, b):
-        if value not in net.routers:
-            raise NoRouter(value)
+    need_router(net, a)
+    need_router(net, b)
+
+
+def need_router(net, value):
+    """Raises NoRouter if this is not a router of the net."""
+    if value not in net.routers:
+        raise NoRouter(value)
 
 
 def is_length(value):

@@ -20,8 +20,7 @@ def ways(net, a, d):
 def nexts(net, a, d):
     """The next routers: all n such that the link from a to n begins a shortest way from a to d."""
     need_routers(net, a, d)
-    found = distances_to(net, d)
-    return tuple([n for n in net.routers if begins(net, found, a, n)])
+    return next_table(net, d)[a]
 
 
 def alike(old, new):
@@ -31,18 +30,37 @@ def alike(old, new):
     """
     if old.routers != new.routers:
         return ()
+    olds, news = next_tables(old), next_tables(new)
     for router in old.routers:
         for d in old.routers:
-            if nexts(old, router, d) != nexts(new, router, d):
+            if olds[d][router] != news[d][router]:
                 return (router, d)
     return None
 
 
+def next_tables(net):
+    """A dict: for each destination, in order, its table."""
+    return {d: next_table(net, d) for d in net.routers}
+
+
+def next_table(net, d):
+    """A dict: for each router, in order, its next routers for d."""
+    found = distances_to(net, d)
+    rows = {router: [] for router in net.routers}
+    for a, b, there, back in net.links:
+        if begins(found, a, b, there):
+            rows[a].append(b)
+        if begins(found, b, a, back):
+            rows[b].append(a)
+    return {router: tuple(sorted(rows[router])) for router in rows}
+
+
 def distances_to(net, d):
     """A dict: for each router that has a way to d, the length of a shortest one, for d itself 0."""
-    found = {d: 0}
-    # A shortest way has fewer links than there are routers, and each turn is right for one link more.
-    for _ in net.routers:
+    found, before = {d: 0}, {}
+    # Each turn is right for ways of one link more, so when it changes nothing, all of them are.
+    while found != before:
+        before = dict(found)
         for a, b, there, back in net.links:
             shorten(found, a, b, there)
             shorten(found, b, a, back)
@@ -55,10 +73,7 @@ def shorten(found, a, n, length):
         found[a] = found[n] + length
 
 
-def begins(net, found, a, n):
-    """Whether the link from a to n begins a shortest way to where the distances in found lead."""
-    length = net.length(a, n)
-    if length is None or n not in found:
-        return False
+def begins(found, a, n, length):
+    """Whether the link from a to n, of this length, begins a shortest way to where the distances in found lead."""
     # Links go both ways, so a has a distance where n has one.
-    return found[a] == length + found[n]
+    return n in found and found[a] == length + found[n]

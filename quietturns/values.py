@@ -3,10 +3,20 @@
 LONGEST_NAME = 8
 
 
+def is_integer(value):
+    """Whether this is an integer."""
+    # True and False are ints for Python, but no integers here.
+    return isinstance(value, int) and not isinstance(value, bool)
+
+
 def is_integer_from(value, least):
     """Whether this is an integer, and not below least."""
-    # True and False are ints for Python, but no integers here.
-    return isinstance(value, int) and not isinstance(value, bool) and value >= least
+    return is_integer(value) and value >= least
+
+
+def is_tuple_of(value, many):
+    """Whether this is a tuple with so many items."""
+    return isinstance(value, tuple) and len(value) == many
 
 
 def is_name(value):

@@ -3,6 +3,7 @@
 import ast
 import builtins
 import pathlib
+import re
 import unittest
 import warnings
 
@@ -21,6 +22,22 @@ __setitem__ __class__ __name__ __slots__'''.split()
 BARRED = (ast.AsyncFunctionDef, ast.Await, ast.Global, ast.Div, ast.AsyncFor, ast.AsyncWith)
 # With a class that has __eq__, these take a list.
 TAKES_A_LIST = ('any', 'all', 'min', 'max', 'sum', 'sorted')
+
+
+WORDS = """register mro elements open input law version_info with_traceback add_note type typing enum Enum Generic
+Protocol ABC namedtuple NamedTuple TypedDict abstractmethod dataclass overload contextmanager dir id vars eval exec exit
+getattr setattr hasattr globals locals compile os gc format global chr frozenset""".split()
+METHODS = """append clear copy count endswith extend find get index insert isalnum isalpha isdigit islower isspace
+isupper items join keys ljust lower lstrip partition pop remove replace reverse rfind rjust rpartition rsplit rstrip
+setdefault split splitlines startswith strip update upper values zfill bit_length""".split()
+
+
+def without_docstrings(tree):
+    """The tree with a pass in place of each docstring."""
+    for node in ast.walk(tree):
+        if isinstance(node, (ast.Module, ast.FunctionDef, ast.ClassDef)) and ast.get_docstring(node) is not None:
+            node.body[0] = ast.Pass()
+    return tree
 
 
 def each(*kinds):
@@ -99,6 +116,53 @@ class Language(unittest.TestCase):
             self.assertTrue(not node.name.startswith('__') or node.name in DOUBLE, (place, node.name))
         for place, node in each(ast.Attribute):
             self.assertTrue(not node.attr.startswith('__') or node.attr in DOUBLE, (place, node.attr))
+
+    def test_no_name_of_a_class_or_an_import_is_assigned_in_a_function(self):
+        for name, text in FILES.items():
+            tree = ast.parse(text)
+            bound = [alias.name for node in tree.body if isinstance(node, ast.ImportFrom) for alias in node.names]
+            bound += [node.name for node in tree.body if isinstance(node, ast.ClassDef)]
+            self.assertEqual(len(bound), len(set(bound)), name)
+            for node in ast.walk(tree):
+                if isinstance(node, ast.Name) and not isinstance(node.ctx, ast.Load):
+                    self.assertNotIn(node.id, bound, (name, node.lineno))
+                if isinstance(node, ast.arg):
+                    self.assertNotIn(node.arg, bound, (name, node.lineno))
+
+    def test_no_file_imports_from_one_that_imports_from_it(self):
+        needs = {name: {node.module.split('.')[1] + '.py' for node in ast.walk(ast.parse(text))
+                        if isinstance(node, ast.ImportFrom) and node.module.startswith('quietturns.')}
+                 for name, text in FILES.items()}
+        while needs:
+            free = [name for name in needs if not needs[name] & set(needs)]
+            self.assertTrue(free, sorted(needs))
+            for name in free:
+                del needs[name]
+
+    def test_words_that_are_not_used(self):
+        for name, text in FILES.items():
+            code = ast.unparse(without_docstrings(ast.parse(text)))
+            self.assertEqual([word for word in WORDS if re.search(rf'\b{word}\b', code)], [], name)
+
+    def test_methods_of_builtin_values(self):
+        own = {node.name for _, node in each(ast.FunctionDef)} | {node.attr for _, node in each(ast.Attribute)
+                                                                  if isinstance(node.ctx, ast.Store)}
+        for place, node in each(ast.Attribute):
+            self.assertIn(node.attr, own | set(METHODS), place)
+
+    def test_is(self):
+        for place, node in each(ast.Compare):
+            for sign, right in zip(node.ops, node.comparators):
+                if isinstance(sign, (ast.Is, ast.IsNot)):
+                    self.assertTrue(isinstance(right, ast.Constant) and right.value in (None, True, False), place)
+
+    def test_sets_are_sorted_or_counted_on_the_spot(self):
+        calls = [node for _, node in each(ast.Call) if node.args and ast.unparse(node.func) in ('sorted', 'len')]
+        taken = [node.args[0] for node in calls]
+        places = [(node.lineno, node.col_offset, ast.unparse(node)) for node in taken]
+        for place, node in each(ast.Set, ast.SetComp, ast.Call):
+            if not isinstance(node, ast.Call) or ast.unparse(node.func) == 'set':
+                self.assertIn((node.lineno, node.col_offset, ast.unparse(node)), places, place)
 
     def test_decorators(self):
         for place, node in each(ast.ClassDef):

@@ -3,56 +3,22 @@
 import copy
 import unittest
 
+import support
 from quietturns.errors import BadLength, BadLink, BadNet, NoLink, NoRouter, TooMany
 from quietturns.nets import Net
-from support import EIGHT, PAIRS, SQUARE, any_values, full_net, is_length, nested, some_nets
+from support import EIGHT, GREAT, PAIRS, SQUARE, any_values, full_net, is_length, nested, repr_of, some_nets
 
 NINE = EIGHT + ('i',)
-GREAT = 10 ** 40 + 7
 
 
-class Case(unittest.TestCase):
-
-    def setUp(self):
-        self.before = repr_of(SQUARE)
-
-    def tearDown(self):
-        self.assertEqual(repr_of(SQUARE), self.before)
-
-    def raised(self, kind, call, *passed, **named):
-        """The error of just this class that the call raises."""
-        with self.assertRaises(kind) as caught:
-            call(*passed, **named)
-        self.assertIs(caught.exception.__class__, kind)
-        return caught.exception
+class Case(support.Case):
 
     def bad_net(self, routers, links):
         """Expects BadNet with the pair of both, just as they were passed."""
         before = copy.deepcopy((routers, links))
         value = self.raised(BadNet, Net, routers, links).value
-        self.assertIs(value.__class__, tuple)
-        self.assertEqual(len(value), 2)
-        self.assertIs(value[0], routers)
-        self.assertIs(value[1], links)
+        self.pair_of(value, routers, links)
         self.assertEqual(repr_of(value), repr_of(before))
-
-    def pair_of(self, value, a, b):
-        """Expects the pair of just these two."""
-        self.assertIs(value.__class__, tuple)
-        self.assertEqual(len(value), 2)
-        self.assertIs(value[0], a)
-        self.assertIs(value[1], b)
-
-
-def repr_of(value):
-    """A text that also tells True from 1, and shows what is in a net."""
-    if isinstance(value, Net):
-        return f'Net{(value.routers, value.links)!r}'
-    if isinstance(value, (tuple, list)):
-        return f'{value.__class__.__name__}({", ".join([repr_of(each) for each in value])})'
-    if isinstance(value, dict):
-        return f'dict({repr_of(list(value.items()))})'
-    return repr(value)
 
 
 class Creating(Case):
