@@ -16,6 +16,14 @@ def is_moment(value, routers):
     return isinstance(value, tuple) and all([router in routers for router in value]) and is_rising(value)
 
 
+def moments_of(routers):
+    """All moments of these routers, which ascend; () is the first one."""
+    found = [()]
+    for router in routers:
+        found = found + [moment + (router,) for moment in found]
+    return found
+
+
 def at_moment(before, after, moment):
     """The table for one destination at a moment, from its tables by old and by new."""
     return {router: after[router] if router in moment else before[router] for router in before}

@@ -1,4 +1,4 @@
-"""Rings and ranks of routers, by a dict of the routers to which each of them may send on."""
+"""Rings, ranks and rows of routers, by a dict of the routers to which each of them may send on."""
 
 LEAST_ROW = 2
 
@@ -44,3 +44,14 @@ def is_row(value, routers):
     if not isinstance(value, tuple) or not LEAST_ROW <= len(value) <= len(routers):
         return False
     return all([router in routers for router in value]) and len(set(value)) == len(value)
+
+
+def row_between(onward, start, end):
+    """Any row of the fewest routers, from start to end, each of which may send on to the following one, or None."""
+    rows = {start: (start,)}
+    while end not in rows:
+        further = {n: rows[router] + (n,) for router in rows for n in onward[router] if n not in rows}
+        if not further:
+            return None
+        rows.update(further)
+    return rows[end]

@@ -4,6 +4,7 @@ import doctest
 import random
 import unittest
 
+from quietturns.errors import NoLink
 from quietturns.nets import Net
 
 SQUARE = Net(('a', 'b', 'c', 'd'), (('a', 'b', 1, 1), ('a', 'd', 5, 5), ('b', 'c', 1, 1), ('c', 'd', 1, 1)))
@@ -11,7 +12,10 @@ EIGHT = ('a', 'b', 'c', 'd', 'e', 'f', 'g', 'h')
 PAIRS = tuple((a, b) for a in EIGHT for b in EIGHT if a < b)
 
 GREAT = 10 ** 40 + 7
-WORDS = ('a', 'b', 'c', 'd', 'e', 'zz', '', 'A', 'turns', 'lost', 'quiet', 'steps', 'rounds', 'none')
+# Links that are none of the square: turned round, of routers without one, of no routers.
+NO_LINKS = (('d', 'c'), ('b', 'a'), ('a', 'c'), ('a', 'a'), ('c', 'z'), ('z', 'd'), ('', ''))
+WORDS = ('a', 'b', 'c', 'd', 'e', 'zz', '', 'A', 'turns', 'lost', 'quiet', 'steps', 'rounds', 'none', 'stops',
+         'lengths', 'bag')
 
 
 class Case(unittest.TestCase):
@@ -47,6 +51,17 @@ class Case(unittest.TestCase):
         before = repr_of(value)
         self.assertIs(call(value), bool(expected), before)
         self.assertEqual(repr_of(value), before)
+
+
+class LinkCase(Case):
+
+    def no_link(self, call, *more):
+        """Expects NoLink with the pair for all that is no link, whatever is passed behind."""
+        for a, b in NO_LINKS:
+            self.pair_of(self.raised(NoLink, call, SQUARE, a, b, *more).value, a, b)
+        for value in any_values():
+            for a, b in ((value, 'd'), ('c', value), (value, value), (value, ['d'])):
+                self.pair_of(self.raised(NoLink, call, SQUARE, a, b, *more).value, a, b)
 
 
 def repr_of(value):
@@ -107,6 +122,14 @@ def replaced(value):
                 yield value[:at] + (other,) + value[at + 1:]
 
 
+def not_ascending(value):
+    """The tuple turned about, with a part doubled, and with parts in other places; none of them ascends."""
+    found = [value + value[-1:], value[:1] + value, value + value]
+    if len(value) > 1:
+        found += [value[::-1], value[1:] + value[:1], value[1::-1] + value[2:]]
+    return found
+
+
 def is_length(value):
     """Whether value is an integer from 1, told by its class."""
     return value.__class__ is int and value > 0
@@ -131,6 +154,11 @@ def some_nets(many, most_routers=5, most_links=7, greatest=4, seed=1):
     return nets
 
 
+def links_of(nets):
+    """Each net with each of its links."""
+    return [(net, link[0], link[1]) for net in nets for link in net.links]
+
+
 def some_pairs(many, most_routers=4, greatest=4, seed=1):
     """Pairs of nets with the same routers: links put in, taken out, with other lengths, all anew, or as they were."""
     source = random.Random(seed)
@@ -148,6 +176,13 @@ def some_pairs(many, most_routers=4, greatest=4, seed=1):
             new = source.choice([net for net in others if net.routers == old.routers])
         pairs.append((old, new))
     return pairs
+
+
+def some_demands(source, routers, many, greatest=6):
+    """Demands of these routers, of which there are so many, or as many as there can be."""
+    pairs = [(a, d) for a in routers for d in routers if a != d]
+    chosen = sorted(source.sample(pairs, min(many, len(pairs))))
+    return tuple(pair + (source.randint(1, greatest),) for pair in chosen)
 
 
 def greater_square(size):

@@ -8,7 +8,10 @@ import sys
 import unittest
 from importlib import import_module
 
+from quietturns.desk import Desk
+from quietturns.lines import Line
 from quietturns.nets import Net
+from quietturns.yard import Yard
 from support import SQUARE
 
 FUNCTIONS = {
@@ -21,18 +24,54 @@ FUNCTIONS = {
     'steps': {'steps': ['net', 'a', 'b', 'start', 'goal'],
               'shows_steps': ['net', 'a', 'b', 'start', 'goal', 'value']},
     'rounds': {'rounds': ['old', 'new'], 'shows_rounds': ['old', 'new', 'value']},
+    'loads': {'loads': ['net', 'demands'], 'moment_loads': ['old', 'new', 'moment', 'demands'],
+              'worst': ['old', 'new', 'demands']},
+    'falls': {'falls': ['net'], 'losers': ['net', 'a', 'b'], 'alternates': ['net', 'a', 'b'],
+              'way_back': ['net', 'a', 'b', 'end', 'd', 'neighbour']},
+    'wanted': {'wanted': ['net', 'rows'], 'shows_wanted': ['net', 'rows', 'value']},
+    'texts': {'show_net': ['net'], 'read_net': ['text'], 'show_run': ['run'], 'read_run': ['text']},
+    'journals': {'read_journal': ['text']},
 }
 # In the order in which the interface lists them: each may need those above it alone.
 FILES = ['errors', 'nets', 'tables', 'judging', 'shifts', 'steps', 'rounds', 'loads', 'lines', 'falls', 'wanted',
          'texts', 'yard', 'journals', 'desk']
-METHODS = {'__init__': ['self', 'routers', 'links'], 'length': ['self', 'a', 'b'],
-           'with_link': ['self', 'a', 'b', 'there', 'back'], 'without': ['self', 'a', 'b']}
+# For each class its file, and its methods with their arguments; with = those that have a default value, behind * those
+# that are passed by name.
+CLASSES = {
+    Net: ('nets', {'__init__': 'self routers links', 'length': 'self a b', 'with_link': 'self a b there back',
+                   'without': 'self a b', '__eq__': 'self other'}),
+    Line: ('lines', {'__init__': 'self net rates', 'at': 'self t', 'classes': 'self goal',
+                     'steps': 'self goal demands=() caps=()', 'shows_steps': 'self goal value demands=() caps=()',
+                     'cheapest': 'self goal offers demands=() caps=()',
+                     'shows_cheapest': 'self goal offers value demands=() caps=()', '__eq__': 'self other'}),
+    Yard: ('yard', {'__init__': 'self net * strict=False', 'do': 'self event', 'known': 'self router', 'told': 'self',
+                    'back': 'self', 'copy': 'self', 'trial': 'self * keep=False', 'tried': 'self look * keep=False',
+                    '__call__': 'self router d', '__eq__': 'self other', '__contains__': 'self x',
+                    '__getitem__': 'self at', '__setitem__': 'self at worth'}),
+    Desk: ('desk', {'__init__': 'self text', 'say': 'self line'}),
+}
+ATTRIBUTES = {
+    Net: {'routers': tuple, 'links': tuple}, Line: {'net': Net, 'rates': tuple},
+    Yard: {'now': tuple, 'events': tuple, 'net': Net, 'many': int, 'turned': tuple, 'lost': tuple, 'arrived': tuple,
+           'journal': str},
+    Desk: {'yard': Yard},
+}
 
 
 def arguments(call):
     """The names of the arguments, all of them without default values."""
     found = inspect.signature(call).parameters.values()
     return [each.name for each in found if each.kind is each.POSITIONAL_OR_KEYWORD and each.default is each.empty]
+
+
+def written(call):
+    """The arguments as in the table."""
+    words = []
+    for each in inspect.signature(call).parameters.values():
+        if each.kind is each.KEYWORD_ONLY and '*' not in words:
+            words.append('*')
+        words.append(each.name if each.default is each.empty else f'{each.name}={each.default!r}')
+    return ' '.join(words)
 
 
 class Interface(unittest.TestCase):
@@ -53,25 +92,36 @@ class Interface(unittest.TestCase):
         # Where the package is, which need not be the place of the tests.
         place = pathlib.Path(import_module('quietturns').__file__).parent.parent
         for at, file in enumerate(FILES):
-            if file in (*FUNCTIONS, 'errors', 'nets'):
-                found = subprocess.run([sys.executable, '-B', '-c', program.format(file)], check=True, text=True,
-                                       capture_output=True, env={**os.environ, 'PYTHONPATH': str(place)})
-                for other in FILES[at + 1:]:
-                    self.assertNotIn(f'quietturns.{other}', found.stdout.split(), file)
+            found = subprocess.run([sys.executable, '-B', '-c', program.format(file)], check=True, text=True,
+                                   capture_output=True, env={**os.environ, 'PYTHONPATH': str(place)})
+            for other in FILES[at + 1:]:
+                self.assertNotIn(f'quietturns.{other}', found.stdout.split(), file)
 
-    def test_net(self):
-        self.assertTrue(inspect.isclass(Net))
-        self.assertEqual(Net.__module__, 'quietturns.nets')
-        for name, names in METHODS.items():
-            with self.subTest(name):
-                self.assertTrue(inspect.isfunction(vars(Net)[name]))
-                self.assertEqual(len(inspect.signature(vars(Net)[name]).parameters), len(names))
-                self.assertEqual(arguments(vars(Net)[name]), names)
+    def test_classes(self):
+        for kind, (file, methods) in CLASSES.items():
+            self.assertTrue(inspect.isclass(kind))
+            self.assertEqual(kind.__module__, f'quietturns.{file}')
+            for name, words in methods.items():
+                with self.subTest(file=file, name=name):
+                    self.assertTrue(inspect.isfunction(vars(kind)[name]))
+                    self.assertEqual(written(vars(kind)[name]), words)
 
-    def test_attributes_of_every_net(self):
-        for net in (SQUARE, SQUARE.without('a', 'b'), SQUARE.with_link('a', 'c', 1, 1)):
-            self.assertIs(net.routers.__class__, tuple)
-            self.assertIs(net.links.__class__, tuple)
+    def test_attributes_of_every_object(self):
+        yard, empty = Yard(SQUARE), Net(('a', 'b'), ())
+        for event in (('out', 'c', 'd'), ('learn', 'b'), ('send', 'a', 'd')):
+            yard.do(event)
+        objects = [SQUARE, empty, SQUARE.without('a', 'b'), SQUARE.with_link('a', 'c', 1, 1),
+                   Line(SQUARE, (('a', 'b', 1),)), Yard(empty), Yard(SQUARE, strict=True), yard, yard.copy(),
+                   Desk(yard.journal), Desk(yard.journal).yard]
+        for each in objects:
+            for name, kind in ATTRIBUTES[each.__class__].items():
+                with self.subTest(each.__class__, name=name):
+                    self.assertIs(getattr(each, name).__class__, kind)
+
+    def test_a_yard_is_not_iterated_over(self):
+        for call in (list, tuple, iter):
+            with self.assertRaises(TypeError):
+                call(Yard(SQUARE))
 
 
 if __name__ == '__main__':

@@ -22,6 +22,7 @@ __setitem__ __class__ __name__ __slots__'''.split()
 BARRED = (ast.AsyncFunctionDef, ast.Await, ast.Global, ast.Div, ast.AsyncFor, ast.AsyncWith)
 # With a class that has __eq__, these take a list.
 TAKES_A_LIST = ('any', 'all', 'min', 'max', 'sum', 'sorted')
+TAKES_AT_ONCE = ('list', 'tuple', 'dict', 'sorted', 'sum', 'any', 'all', 'enumerate', 'min', 'max')
 
 
 WORDS = """register mro elements open input law version_info with_traceback add_note type typing enum Enum Generic
@@ -50,9 +51,26 @@ def each(*kinds):
     return found
 
 
+def is_property(node):
+    """Whether a function is a property."""
+    return 'property' in [ast.unparse(each) for each in node.decorator_list]
+
+
+def stored(tree):
+    """The names of all attributes that are assigned in a tree."""
+    return {node.attr for node in ast.walk(tree) if isinstance(node, ast.Attribute) and isinstance(node.ctx, ast.Store)}
+
+
+def called(function):
+    """The names of all functions and methods that a function calls."""
+    found = [node.func for node in ast.walk(function) if isinstance(node, ast.Call)]
+    return {node.id if isinstance(node, ast.Name) else node.attr for node in found}
+
+
 def known(name):
     """Whether this is a name of Python's own that the program may not give another meaning."""
-    return hasattr(builtins, name)
+    # Python itself keeps what was last shown as _ there.
+    return name != '_' and hasattr(builtins, name)
 
 
 class Language(unittest.TestCase):
@@ -178,6 +196,80 @@ class Language(unittest.TestCase):
                     self.assertNotIsInstance(argument, ast.GeneratorExp, place)
         for place, node in each(ast.Attribute):
             self.assertNotEqual(node.attr, 'sort', place)
+
+    def test_methods_properties_and_attributes_have_names_of_their_own(self):
+        methods, properties = set(), set()
+        for place, node in each(ast.ClassDef):
+            functions = [part for part in node.body if isinstance(part, ast.FunctionDef)]
+            names = [part.name for part in functions]
+            self.assertEqual(len(names), len(set(names)), place)
+            self.assertEqual(set(names) & stored(node), set(), place)
+            methods.update(part.name for part in functions if not is_property(part))
+            properties.update(part.name for part in functions if is_property(part))
+        everything = set().union(*[stored(ast.parse(text)) for text in FILES.values()])
+        self.assertEqual(properties & methods, set())
+        self.assertEqual(properties & everything, set())
+        for place, node in each(ast.Attribute):
+            self.assertIn(node.attr, methods | properties | everything | set(METHODS), place)
+
+    def test_what_is_asked_by_items_is_not_iterated_over(self):
+        for place, node in each(ast.ClassDef):
+            names = {part.name: part for part in node.body if isinstance(part, ast.FunctionDef)}
+            if '__getitem__' in names:
+                self.assertIsInstance(names['__iter__'].body[0], ast.Raise, place)
+
+    def test_properties_and_operators_change_nothing(self):
+        functions = {}
+        for place, node in each(ast.FunctionDef):
+            functions.setdefault(node.name, []).append((place, node))
+        free = ('__init__', '__setitem__', '__call__', '__enter__', '__exit__', '__iter__')
+        waiting = {name for name, found in functions.items() for _, node in found
+                   if is_property(node) or name.startswith('__') and name not in free}
+        reached = set()
+        while waiting - reached:
+            name = min(waiting - reached)
+            reached.add(name)
+            for place, node in functions.get(name, []):
+                waiting |= called(node)
+                for part in ast.walk(node):
+                    self.assertNotIsInstance(part, (ast.Delete, ast.AugAssign), (place, name))
+                    if isinstance(part, (ast.Attribute, ast.Subscript)):
+                        self.assertIsInstance(part.ctx, ast.Load, (place, name))
+        self.assertIn('nexts_known', reached)
+        changing = ('append', 'extend', 'insert', 'pop', 'remove', 'clear', 'update', 'setdefault', 'reverse')
+        self.assertEqual([name for name in changing if name in reached], [])
+
+    def test_iterated_at_once(self):
+        taken = [node.iter for _, node in each(ast.For, ast.comprehension)]
+        for _, node in each(ast.Call):
+            if ast.unparse(node.func) == 'zip':
+                taken += node.args
+            elif ast.unparse(node.func) in TAKES_AT_ONCE:
+                taken += node.args[:1]
+        places = [ast.dump(node, include_attributes=True) for node in taken]
+        for place, node in each(ast.Call):
+            name = node.func.id if isinstance(node.func, ast.Name) else node.func.attr
+            if name in ('zip', 'enumerate', 'reversed', 'range', 'items', 'keys', 'values'):
+                self.assertIn(ast.dump(node, include_attributes=True), places, place)
+
+    def test_keywords_of_builtins(self):
+        allowed = {'sorted': {'key', 'reverse'}, 'min': {'key', 'default'}, 'max': {'key', 'default'}, 'sum': {'start'},
+                   'enumerate': {'start'}}
+        for place, node in each(ast.Call):
+            name = node.func.id if isinstance(node.func, ast.Name) else ''
+            if name in BUILTINS:
+                self.assertLessEqual({word.arg for word in node.keywords}, allowed.get(name, set()), place)
+
+    def test_what_leaves_a_block(self):
+        for place, node in each(ast.FunctionDef):
+            if node.name == '__exit__':
+                self.assertEqual([part.arg for part in node.args.args], ['self', 'kind', 'value', 'trace'], place)
+                barred = (ast.Call, ast.Subscript, ast.BinOp)
+                self.assertEqual([part for part in ast.walk(node) if isinstance(part, barred)], [])
+
+    def test_errors_that_are_caught_are_own_ones(self):
+        for place, node in each(ast.ExceptHandler):
+            self.assertEqual(ast.unparse(node.type), 'NetError', place)
 
 
 if __name__ == '__main__':

@@ -4,12 +4,12 @@ import copy
 import unittest
 from itertools import permutations
 
-from quietturns.errors import BadShift, NoLink, NoRouter
+from quietturns.errors import BadShift, NoRouter
 from quietturns.nets import Net
 from quietturns.shifts import free_range, point, points, shifted, stretch
 from search import Shifts, tables_of
-from support import GREAT, SQUARE, Case, any_values, changed, full_net, great_net, repr_of, shortest_ways
-from support import greater_square, some_nets
+from support import GREAT, SQUARE, LinkCase, any_values, changed, full_net, great_net, repr_of, shortest_ways
+from support import greater_square, links_of, some_nets
 
 EXAMPLE = """
 >>> from quietturns.nets import Net
@@ -23,13 +23,6 @@ EXAMPLE = """
 # The same with 4 more for c and d: shifts from -4 to where the example has them from 0.
 LONGER = SQUARE.with_link('c', 'd', 5, 5)
 CHAIN = Net(('a', 'b', 'c'), (('a', 'b', 1, 1), ('b', 'c', 4, 2)))
-# Links that are none of a net: turned round, of routers without one, of no routers.
-NO_LINKS = (('d', 'c'), ('b', 'a'), ('a', 'c'), ('a', 'a'), ('c', 'z'), ('z', 'd'), ('', ''))
-
-
-def links_of(nets):
-    """Each net with each of its links."""
-    return [(net, link[0], link[1]) for net in nets for link in net.links]
 
 
 def near(net, a, b):
@@ -39,18 +32,7 @@ def near(net, a, b):
     return shifts, sorted({t for each in found for t in (each - 1, each)})
 
 
-class ShiftCase(Case):
-
-    def no_link(self, call, *more):
-        """Expects NoLink with the pair for all that is no link, whatever is passed behind."""
-        for a, b in NO_LINKS:
-            self.pair_of(self.raised(NoLink, call, SQUARE, a, b, *more).value, a, b)
-        for value in any_values():
-            for a, b in ((value, 'd'), ('c', value), (value, value), (value, ['d'])):
-                self.pair_of(self.raised(NoLink, call, SQUARE, a, b, *more).value, a, b)
-
-
-class Shifted(ShiftCase):
+class Shifted(LinkCase):
 
     def test_both_lengths_are_greater(self):
         net = SQUARE.with_link('c', 'd', 3, 7)
@@ -98,7 +80,7 @@ class Shifted(ShiftCase):
         self.assertEqual(shifted(t=2, b='d', a='c', net=SQUARE), SQUARE.with_link('c', 'd', 3, 3))
 
 
-class Point(ShiftCase):
+class Point(LinkCase):
 
     def test_the_example(self):
         self.example(EXAMPLE, 5)
@@ -206,7 +188,7 @@ def goes_over(net, a, b, router, d):
     return {(a, b) in zip(row, row[1:]) or (b, a) in zip(row, row[1:]) for row in rows}
 
 
-class Points(ShiftCase):
+class Points(LinkCase):
 
     def test_all_points_ascending_each_once(self):
         for net, a, b in links_of(some_nets(40, seed=6) + [full_net(), great_net(3)]):
@@ -230,7 +212,7 @@ class Points(ShiftCase):
         self.no_link(points)
 
 
-class Stretch(ShiftCase):
+class Stretch(LinkCase):
 
     def test_where_links_stand(self):
         # Up to the point of the router, from it on, always, or never.
@@ -330,7 +312,7 @@ def has_own(net, a, b, t):
     return tables_of(net.with_link(a, b, net.length(a, b) + t, net.length(b, a) + t)) == tables_of(net)
 
 
-class FreeRange(ShiftCase):
+class FreeRange(LinkCase):
 
     def test_against_all_tables(self):
         kinds = {}
