@@ -3,8 +3,8 @@
 from quietturns.nets import Net
 from quietturns.tables import distances_to, next_tables
 
-# A way goes over at most 7 links, each with a rate of at most 9. So in this part of the time from one integer to the
-# next no way can catch up with one that was shorter.
+# A way goes over at most 7 links, each with a rate of at most 9. So in one of so many parts of the time from an integer
+# to the next one no way can catch up with another one that was shorter.
 PARTS = 1000
 
 
@@ -41,7 +41,7 @@ def change_after(net, rates, t, goal):
 
 
 def waits_for(soon, d):
-    """After how many integers each link that begins no shortest way to d now, but comes nearer to it, begins one."""
+    """In how many integers each link that begins no shortest way to d begins one, if it ever does as things go."""
     far, waits = distances_to(soon, d), []
     for a, b, there, back in soon.links:
         if a in far:
@@ -50,8 +50,8 @@ def waits_for(soon, d):
 
 
 def wait_for(behind):
-    """A list: after how many integers a way that is longer by so many parts is not longer any more, if ever."""
-    # The sum of so much by which it is longer at the integer itself, and of what it has gained since, in one part.
+    """A list: in how many integers a way that is longer by so many parts is as short as the shortest, if it ever is."""
+    # These parts are those by which it was longer at the integer itself, less what it has gained in one part of time.
     longer_by = (behind + PARTS // 2) // PARTS
     gained = longer_by * PARTS - behind
     return [(longer_by + gained - 1) // gained] if gained > 0 else []

@@ -138,7 +138,8 @@ class Wanted(WantedCase):
         for size in (1, 7, 999999999, GREAT):
             net = Net(NET.routers, tuple((a, b, size, 2 * size) for a, b, _, _ in NET.links))
             for rows in (ROWS, ROWS[:1], ROWS[1:], (('a', 'm', 'b'), ('a', 'n', 'b'))):
-                self.assertEqual(wanted(net, rows), wanted(NET, rows))
+                self.right(net, rows)
+                self.shows(NET, rows, wanted(net, rows), True)
 
     def test_one_row(self):
         for net in (NET, TRIANGLE, SQUARE):
@@ -166,15 +167,19 @@ class Wanted(WantedCase):
 
     def test_bags_in_which_times_differ(self):
         # Swaps that only together, one of them twice, show that there are no lengths.
-        source, seen = random.Random(75), set()
+        links = tuple(pair + (1, 1) for pair in (('a', 'b'), ('a', 'c'), ('a', 'd'), ('b', 'c'), ('c', 'd')))
+        net, rows = Net(('a', 'b', 'c', 'd'), links), (('a', 'c', 'd'), ('b', 'a', 'd'), ('b', 'c', 'a', 'd'))
+        self.assertEqual(self.right(net, rows), 'bag')
+        others, seen = (('a', 'd'), ('b', 'c', 'd'), ('b', 'a', 'c', 'd')), {}
+        for times in product(range(1, 6), repeat=3):
+            bag = tuple(zip(rows, others, times))
+            seen[times] = fits_bag(net, rows, bag)
+            self.shows(net, rows, ('bag', bag), seen[times])
+        self.assertEqual([seen[2, 1, 1], seen[4, 2, 2], seen[1, 1, 1], seen[1, 2, 2]], [True, True, False, False])
+        source = random.Random(75)
         for seed in range(200):
             net = great_net(seed, links=14)
-            rows = some_rows(source, net, 8)
-            word, found = wanted(net, rows)
-            if word == 'bag':
-                self.assertTrue(fits_bag(net, rows, found))
-                seen.update(each[2] for each in found)
-        self.assertEqual(sorted(seen)[:2], [1, 2])
+            self.right(net, some_rows(source, net, 8))
 
     def test_by_name(self):
         self.assertEqual(wanted(rows=ROWS, net=NET)[0], 'bag')
