@@ -264,6 +264,8 @@ class Showing(WantedCase):
             self.shows(NET, ROWS, ('bag', (BAG[1][0][:2] + (times,), BAG[1][1])), False)
         for times in (0, -1, True, None, '1', (1,)):
             self.shows(NET, ROWS, ('bag', tuple((row, other, times) for row, other, _ in BAG[1])), False)
+            # Beside swaps that are enough by themselves.
+            self.shows(NET, ROWS, ('bag', tuple(sorted(BAG[1] + ((ROWS[0], ROWS[0], times),), key=repr))), False)
 
     def test_no_pair_twice(self):
         one, two = BAG[1]
@@ -287,6 +289,12 @@ class Showing(WantedCase):
                       ('a', 'z', 'b'), ('a',), (), None, ['a', 'm', 'b'], 'amb'):
             self.shows(NET, ROWS, ('bag', ((ROWS[0], other, 1), BAG[1][1])), False)
             self.assertFalse(is_row(NET, other) and (other[0], other[-1]) == ('a', 'b'))
+        # Of the links from router to router only some are missing.
+        rows = (('c', 'd', 'a', 'b'), ('d', 'c', 'b'))
+        one, two = (rows[0], ('c', 'b'), 1), (rows[1], ('d', 'a', 'b'), 1)
+        self.shows(SQUARE, rows, ('bag', (one, two)), True)
+        for other in (('c', 'a', 'b'), ('c', 'd', 'b'), ('c', 'd', 'b', 'a'), ('c', 'a', 'd', 'b')):
+            self.shows(SQUARE, rows, ('bag', ((rows[0], other, 1), two)), False)
 
     def test_lengths_are_links_of_the_net_in_their_order(self):
         word, links = wanted(NET, ROWS[:1])
@@ -345,7 +353,8 @@ class Errors(WantedCase):
         found += not_ascending(ROWS) + [(one, one), ROWS + (('a', 'm', 'n', 'b'),)]
         # No links, no routers, a router twice.
         found += [(('a', 'b'),), (('a', 'm', 'b', 'a'),), (('a', 'm', 'a'),), (('a', 'z'),), (('z', 'a'),)]
-        found += [(('a', 'a'),)]
+        found += [(('a', 'a'),), (('a', 'b', 'm'),), (('m', 'a', 'b'),), (('m', 'a', 'b', 'n'),)]
+        found += [(one, ('n', 'b', 'a'))]
         found += [((value, 'm'),) for value in any_values()] + [(('a', value),) for value in any_values()]
         found += [(one, value) for value in any_values()] + [(value, two) for value in any_values()]
         # Two wrong things at once.
