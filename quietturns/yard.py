@@ -146,7 +146,8 @@ class Trial:
 
     def __init__(self, yard, keep):
         self._yard = yard
-        self._keep = keep
+        # True or None, since what is run as a block is left may only ask for None (LANGUAGE.md, L6).
+        self._kept = True if keep else None
         self._mark = None
 
     def __enter__(self):
@@ -154,7 +155,7 @@ class Trial:
         return self._yard
 
     def __exit__(self, kind, value, trace):
-        if kind is not None or not self._keep:
+        if kind is not None or self._kept is None:
             self._yard._state = self._mark.state
         self._mark = self._mark.below
 

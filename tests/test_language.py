@@ -41,10 +41,10 @@ def without_docstrings(tree):
     return tree
 
 
-def each(*kinds):
+def each(*kinds, files=FILES):
     """Each (place, node) of such nodes in all files."""
     found = []
-    for name, text in FILES.items():
+    for name, text in files.items():
         for node in ast.walk(ast.parse(text)):
             if isinstance(node, kinds):
                 found.append((f'{name}:{getattr(node, "lineno", "")}', node))
@@ -65,6 +65,53 @@ def called(function):
     """The names of all functions and methods that a function calls."""
     found = [node.func for node in ast.walk(function) if isinstance(node, ast.Call)]
     return {node.id if isinstance(node, ast.Name) else node.attr for node in found}
+
+
+def block_ends(files):
+    """Each (place, node) that is run as a block is left: __exit__, the methods that it calls, and each finally."""
+    functions = each(ast.FunctionDef, files=files)
+    reached, waiting = set(), {'__exit__'}
+    while waiting - reached:
+        reached |= waiting
+        waiting = {name for _, node in functions if node.name in reached for name in called(node)}
+    found = [(place, row) for place, node in functions if node.name in reached for row in node.body]
+    return found + [(place, row) for place, node in each(ast.Try, files=files) for row in node.finalbody]
+
+
+def questions(node):
+    """What the tests in a node ask, one by one: what stands between and, or and not; and all comparisons."""
+    found = []
+    for part in ast.walk(node):
+        if isinstance(part, (ast.If, ast.IfExp, ast.While, ast.Assert)):
+            found.append(part.test)
+        elif isinstance(part, ast.BoolOp):
+            found += part.values
+        elif isinstance(part, ast.UnaryOp) and isinstance(part.op, ast.Not):
+            found.append(part.operand)
+        elif isinstance(part, ast.Compare):
+            found.append(part)
+    return [part for part in found if not isinstance(part, ast.BoolOp)
+            and not (isinstance(part, ast.UnaryOp) and isinstance(part.op, ast.Not))]
+
+
+def may_be_asked(node, plainly):
+    """Whether a name or an attribute is asked for None; if plainly, also alone or compared with a literal."""
+    if not isinstance(node, ast.Compare):
+        return plainly and isinstance(node, (ast.Name, ast.Attribute))
+    if len(node.ops) > 1 or not isinstance(node.left, (ast.Name, ast.Attribute)):
+        return False
+    if not isinstance(node.comparators[0], ast.Constant):
+        return False
+    if isinstance(node.ops[0], (ast.Is, ast.IsNot)):
+        return node.comparators[0].value is None
+    return plainly and not isinstance(node.ops[0], (ast.In, ast.NotIn))
+
+
+def barred_questions(files):
+    """Each (place, text) of a test that may not stand where a block is left."""
+    plainly = not {'__eq__', '__len__'} & {node.name for _, node in each(ast.FunctionDef, files=files)}
+    return sorted({(place, ast.unparse(asked)) for place, row in block_ends(files) for asked in questions(row)
+                   if not may_be_asked(asked, plainly)})
 
 
 def known(name):
@@ -266,6 +313,41 @@ class Language(unittest.TestCase):
                 self.assertEqual([part.arg for part in node.args.args], ['self', 'kind', 'value', 'trace'], place)
                 barred = (ast.Call, ast.Subscript, ast.BinOp)
                 self.assertEqual([part for part in ast.walk(node) if isinstance(part, barred)], [])
+
+    def test_what_is_asked_as_a_block_is_left(self):
+        self.assertEqual(barred_questions(FILES), [])
+        for place, node in each(ast.FunctionDef):
+            if node.name == '__exit__':
+                read = [part.id for row in node.body for part in ast.walk(row) if isinstance(part, ast.Name)]
+                self.assertEqual({'value', 'trace'} & set(read), set(), place)
+
+    def test_the_look_for_what_is_asked_as_a_block_is_left(self):
+        for_none = ['kind is None', 'kind is not None or self.kept is None', 'not (kind is None and held is not None)',
+                    'self.yard.kept is not None']
+        plain = ['self.kept', 'held', 'not self.kept', 'kind is not None or not self.kept', 'self.kept == 1',
+                 'held != "yes"', 'self.kept < 3 and kind is None', 'self.kept == None']
+        never = ['self.kept is True', 'held is not False', 'self.kept == held', '3 <= held', 'self.rows[0]',
+                 'held in (1, 2)', 'len(self.rows)', '1 < held < 3', '(kind is None) is None']
+        for asked in for_none + plain + never:
+            for row in (f'if {asked}: pass', f'if kind is None:\n pass\nelif {asked}: pass',
+                        f'if kind is None:\n pass\nelse:\n if {asked}: pass'):
+                for alike in ('__eq__', '__len__', 'told'):
+                    barred = asked in never or asked in plain and alike != 'told'
+                    for files in self.block_ends_with(row, alike):
+                        self.assertEqual(bool(barred_questions(files)), barred, files)
+
+    def block_ends_with(self, row, alike):
+        """Files with this row in an __exit__, in what one calls, and in a finally, and with such a method elsewhere."""
+        def told(name, *rows):
+            body = '\n'.join(f'  {part}' for text in rows for part in text.split('\n'))
+            return f' def {name}(self, kind, held):\n{body}\n'
+
+        other = {'other.py': 'class Other:\n' + told(alike, 'return 0')}
+        for ends in (told('__exit__', row), told('__exit__', 'self.shut()') + told('shut', row),
+                     told('told', 'try:\n pass\nfinally:\n ' + row.replace('\n', '\n '))):
+            yield other | {'ends.py': 'class Ends:\n' + ends}
+        # Elsewhere all may be asked.
+        self.assertEqual(barred_questions(other | {'ends.py': 'class Ends:\n' + told('shut', row)}), [])
 
     def test_errors_that_are_caught_are_own_ones(self):
         for place, node in each(ast.ExceptHandler):

@@ -1,6 +1,7 @@
 """Section 14, and G6."""
 
 import copy
+import itertools
 import random
 import unittest
 
@@ -24,6 +25,8 @@ EXAMPLE = """
 RUN = (('out', 'c', 'd'), ('learn', 'b'), ('send', 'a', 'd'), ('hop', 0, 'b'), ('hop', 0, 'a'), ('send', 'b', 'a'),
        ('hop', 1, 'a'), ('send', 'c', 'a'))
 OUT = SQUARE.without('c', 'd')
+# What is passed for keep, if anything; only True itself keeps.
+KEEPS = ({}, {'keep': False}, {'keep': True}, {'keep': 1}, {'keep': 'yes'}, {'keep': None})
 CHAIN = Net(('a', 'b', 'c'), (('a', 'b', 1, 1), ('b', 'c', 1, 1)))
 
 
@@ -33,6 +36,14 @@ def played(net, run, strict=False):
     for event in run:
         yard.do(event)
     return yard
+
+
+def entered(by, yard, keep, look):
+    """What look returns in a trial: by trial, by tried, or by this context manager."""
+    if by == 'tried':
+        return yard.tried(look, **keep)
+    with yard.trial(**keep) if by == 'trial' else by as same:
+        return look(same)
 
 
 class YardCase(Case):
@@ -671,6 +682,74 @@ class Trials(YardCase):
         for call in (lambda: yard.trial(True), lambda: yard.tried(len, True)):
             with self.assertRaises(TypeError):
                 call()
+
+
+class KeepOfTrials(YardCase):
+
+    def within(self, yard, run, plan):
+        """Plays trials within one another by a plan of (by, keep, error); returns the run that is expected then."""
+        if not plan:
+            return run
+        (by, keep, error), *rest = plan
+        played_in = []
+
+        def look(same):
+            self.assertIs(same, yard)
+            yard.back()
+            yard('a', 'd')
+            yard('b', 'd')
+            played_in.append(self.within(yard, run[:-1] + (('send', 'a', 'd'), ('send', 'b', 'd')), rest))
+            yard('c', 'd')
+            if error is not None:
+                raise error()
+            return 'looked'
+
+        if error is None:
+            self.assertEqual(entered(by, yard, keep, look), 'looked')
+        else:
+            self.raised(error, entered, by, yard, keep, look)
+        if keep.get('keep') is True and error is None:
+            run = played_in[0] + (('send', 'c', 'd'),)
+        self.assertEqual(seen(yard), seen(played(SQUARE, run)))
+        return run
+
+    def test_one_trial(self):
+        for by, keep, error in itertools.product(('trial', 'tried'), KEEPS, (None, KeyError, KeyboardInterrupt)):
+            self.within(played(SQUARE, RUN), RUN, [(by, keep, error)])
+
+    def test_a_trial_in_a_trial(self):
+        trials = list(itertools.product(('trial', 'tried'), KEEPS, (None, KeyError)))
+        for outer, inner in itertools.product(trials, trials):
+            self.within(played(SQUARE, RUN), RUN, [outer, inner])
+
+    def test_an_error_that_leaves_both_trials(self):
+        def look(same):
+            same.back()
+            raise KeyError(same('a', 'd'))
+
+        trials = list(itertools.product(('trial', 'tried'), KEEPS))
+        yard = played(SQUARE, RUN)
+        for (outer, outer_keep), (inner, inner_keep) in itertools.product(trials, trials):
+            error = self.refuses(yard, KeyError, entered, outer, yard, outer_keep,
+                                 lambda same: entered(inner, same, inner_keep, look))
+            self.assertEqual(error.args, (2,))
+
+    def test_the_same_context_manager_behind_its_block(self):
+        for keep, *errors in itertools.product(KEEPS, (None, KeyError), (None, KeyError), (None, KeyError)):
+            yard, run = played(SQUARE, RUN), RUN
+            trial = yard.trial(**keep)
+            for error in errors:
+                run = self.within(yard, run, [(trial, keep, error)])
+
+    def test_the_same_context_manager_within_its_own_block(self):
+        for keep, *errors in itertools.product(KEEPS, (None, KeyError), (None, KeyError), (None, KeyError)):
+            yard = played(SQUARE, RUN)
+            trial = yard.trial(**keep)
+            for _ in range(2):
+                self.within(yard, yard.events, [(trial, keep, error) for error in errors])
+            # With others between.
+            self.within(yard, yard.events, [(trial, keep, errors[0]), ('tried', {'keep': True}, errors[1]),
+                                            (trial, keep, errors[2]), ('trial', {}, None)])
 
 
 if __name__ == '__main__':
